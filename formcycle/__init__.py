@@ -1,0 +1,1 @@
+"""Formcycle: forms of two numbers, the turns between them, and the numbers that they take."""

@@ -1,0 +1,53 @@
+"""The names and arguments of the document's interface, as they stand there."""
+
+import importlib
+import inspect
+import unittest
+
+ARGUMENTS = {
+    "formcycle.errors": {
+        "NoTurn": ["turn"],
+        "NoShape": ["form"],
+        "TooGreat": ["number", "most"],
+        "NoRoot": ["number"],
+        "NotLevel": ["form"],
+        "NotOwn": ["turn"],
+        "NotPlain": ["form"],
+        "NoMeasure": ["number"],
+        "NoAnswer": ["point"],
+    },
+    "formcycle.wholes": {
+        "divisor": ["one", "other"],
+        "shares": ["one", "other"],
+        "root": ["number"],
+        "is_square": ["number"],
+        "powered": ["thing", "count", "put", "first"],
+    },
+    "formcycle.turns": {
+        "is_turn": ["turn"],
+        "led": ["turn", "point"],
+        "then": ["one", "other"],
+        "back": ["turn"],
+        "times": ["turn", "count"],
+    },
+    "formcycle.forms": {
+        "measure": ["form"],
+        "value": ["form", "point"],
+        "content": ["form"],
+        "moved": ["form", "turn"],
+        "opposite": ["form"],
+        "shape": ["form"],
+    },
+}
+
+
+class Interface(unittest.TestCase):
+    def test_names_and_arguments(self):
+        for module, functions in ARGUMENTS.items():
+            for name, arguments in functions.items():
+                asked = getattr(importlib.import_module(module), name)
+                self.assertEqual(list(inspect.signature(asked).parameters), arguments, (module, name))
+
+
+if __name__ == "__main__":
+    unittest.main()
