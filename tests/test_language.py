@@ -1,4 +1,4 @@
-"""Rules of LANGUAGE.md that can be read off the package's files one by one."""
+"""Some of the rules of LANGUAGE.md: those that are easily read off the package's files. The others are not tested here."""
 
 import ast
 import builtins
@@ -9,7 +9,7 @@ import unittest
 PACKAGE = pathlib.Path(__file__).resolve().parent.parent / "formcycle"
 FILES = sorted(PACKAGE.rglob("*.py"))
 
-STATEMENTS = (
+PARTS_OF_CODE = (
     "Module ImportFrom alias FunctionDef ClassDef arguments arg Assign AugAssign If While For Return Break Continue "
     "Pass Raise Try ExceptHandler Expr Name Load Store Constant Attribute Subscript Slice Call keyword Lambda IfExp "
     "List Tuple Dict ListComp comprehension JoinedStr FormattedValue BoolOp And Or UnaryOp Not USub UAdd Invert "
@@ -66,7 +66,7 @@ class Files(unittest.TestCase):
 class Code(unittest.TestCase):
     def test_statements_and_expressions(self):
         for name, node in nodes(ast.AST):
-            self.assertIn(node.__class__.__name__, STATEMENTS, (name, getattr(node, "lineno", 0)))
+            self.assertIn(node.__class__.__name__, PARTS_OF_CODE, (name, getattr(node, "lineno", 0)))
 
     def test_imports_of_what_a_file_of_the_package_defines(self):
         for name, node in nodes(ast.ImportFrom):
