@@ -1,6 +1,7 @@
 """What several tests ask about: turns, forms and points, small and great, and the kinds of what is told."""
 
 from itertools import product
+from math import isqrt
 
 GREAT = 7 ** 236 + 12345
 
@@ -27,6 +28,96 @@ def great_turns():
         made.append((1 + one * other, one, other, 1))
         made.append((-1, -one, -other, -1 - one * other))
     return made
+
+
+def row_of_turns(seed, figures):
+    """A turn made of a long row of small ones, always the same for a seed, with numbers of about so many figures."""
+    turn = (1, 0, 0, 1)
+    while max(abs(number) for number in turn) < 10 ** figures:
+        seed = (seed * 1103515245 + 12345) % 2 ** 31
+        often = seed // 2 ** 16 % 15 - 7
+        turn = behind(turn, (0, -1, 1, often if abs(often) > 1 else 5 * often + 2))
+    return turn
+
+
+def behind(one, other):
+    p, q, r, s = one
+    t, u, v, w = other
+    return (p * t + q * v, p * u + q * w, r * t + s * v, r * u + s * w)
+
+
+def home(turn):
+    p, q, r, s = turn
+    return (s, -q, -r, p)
+
+
+def with_signs_changed(turn):
+    return tuple(-number for number in turn)
+
+
+def so_many(turn, count):
+    """A turn so many times, for counts of any size."""
+    if count < 0:
+        return so_many(home(turn), -count)
+    came = (1, 0, 0, 1)
+    for figure in bin(count)[2:]:
+        came = behind(came, came)
+        if figure == "1":
+            came = behind(came, turn)
+    return came
+
+
+def move(form, turn):
+    a, b, c = form
+    p, q, r, s = turn
+    return (
+        a * p * p + b * p * r + c * r * r,
+        2 * a * p * q + b * (p * s + q * r) + 2 * c * r * s,
+        a * q * q + b * q * s + c * s * s,
+    )
+
+
+def measure_of(form):
+    return form[1] * form[1] - 4 * form[0] * form[2]
+
+
+def is_no_square(number):
+    return number < 0 or isqrt(number) ** 2 != number
+
+
+def bowls(most):
+    return [form for form in small_forms(most) if form[0] > 0 and measure_of(form) < 0]
+
+
+def saddles(most):
+    return [form for form in small_forms(most) if measure_of(form) > 0 and is_no_square(measure_of(form))]
+
+
+def saddle_measures(most):
+    return [number for number in range(2, most + 1) if number % 4 < 2 and is_no_square(number)]
+
+
+def unit_form(number):
+    return (1, number % 4, (number % 4 - number) // 4)
+
+
+def level_forms(number):
+    """All level forms of a measure, by the words of the document."""
+    far = isqrt(number)
+    found = []
+    for b in range(1, far + 1):
+        for a in range(-far, far + 1):
+            if a != 0 and (b * b - number) % (4 * a) == 0 and far - b < 2 * abs(a) <= far + b:
+                found.append((a, b, (b * b - number) // (4 * a)))
+    return found
+
+
+DOMES = ((-1, 0, -1), (-1, 1, -1), (-5, 4, -1), (-GREAT, 1, -GREAT))
+FLATS = ((0, 0, 0), (1, 2, 1), (1, 0, 0), (0, 1, 0), (0, -5, 7), (1, 3, 2), (1, 0, -GREAT * GREAT))
+# Their measures are squares above 4000.
+GREAT_FLATS = ((1, 0, -1024), (0, 64, 1), (0, 10 ** 199, 0), (-1, 0, 2500))
+# Their measures are 4001, 4004, and far above.
+GREAT_SADDLES = ((1, 1, -1000), (-1, 1, 1000), (1, 0, -1001), (GREAT, 1, -GREAT), (1, 10 ** 199, 1))
 
 
 def small_forms(most):

@@ -38,7 +38,31 @@ ARGUMENTS = {
         "opposite": ["form"],
         "shape": ["form"],
     },
+    "formcycle.bowls": {
+        "is_least": ["form"],
+        "settled": ["form"],
+        "own_turns": ["form"],
+    },
+    "formcycle.saddles": {
+        "is_level": ["form"],
+        "after": ["form"],
+        "eased": ["form"],
+        "round_of": ["form"],
+        "step_of": ["form"],
+        "power_of": ["form", "turn"],
+    },
+    "formcycle.shapes": {
+        "shape_of": ["form"],
+        "least_of": ["form"],
+        "alike": ["one", "other"],
+    },
+    "formcycle.products": {
+        "product": ["one", "other"],
+        "joined": ["rows", "one", "other"],
+    },
 }
+
+METHODS = {"least": ["self"], "leaves": ["self", "turn"], "way_to": ["self", "other"]}
 
 
 class Interface(unittest.TestCase):
@@ -47,6 +71,12 @@ class Interface(unittest.TestCase):
             for name, arguments in functions.items():
                 asked = getattr(importlib.import_module(module), name)
                 self.assertEqual(list(inspect.signature(asked).parameters), arguments, (module, name))
+
+    def test_methods_of_shapes(self):
+        shapes = importlib.import_module("formcycle.shapes")
+        for kind in (shapes.Shape, shapes.Bowl, shapes.Saddle):
+            for name, arguments in METHODS.items():
+                self.assertEqual(list(inspect.signature(getattr(kind, name)).parameters), arguments, (kind, name))
 
 
 if __name__ == "__main__":

@@ -2,8 +2,12 @@
 
 import unittest
 
-from formcycle.errors import FormError, NoRoot, NoTurn
+from formcycle.bowls import is_least, own_turns, settled
+from formcycle.errors import Apart, FormError, NoRoot, NoShape, NotLevel, NotOwn, NotPlain, NoTurn, TooGreat
 from formcycle.forms import content, measure, moved, opposite, shape, value
+from formcycle.products import joined, product
+from formcycle.saddles import after, eased, is_level, power_of, round_of, step_of
+from formcycle.shapes import alike, least_of, shape_of
 from formcycle.turns import SAME, back, is_turn, led, then, times
 from formcycle.wholes import divisor, is_square, powered, root, shares
 from tests.samples import GREAT, is_tuple_of_wholes, is_whole
@@ -13,6 +17,9 @@ TURNS = (SAME, (-1, 0, 0, -1), (0, -1, 1, 0), (2, 1, 1, 1), (1, GREAT, 0, 1))
 POINTS = ((0, 0), (1, 0), (0, 1), (-3, 1), (GREAT, 1))
 FORMS = ((0, 0, 0), (1, 0, 0), (0, 1, 0), (1, 1, 1), (-1, 0, -1), (1, 0, -2), (GREAT, 1, -GREAT))
 COUNTS = (0, 1, -1, 2, 7, 100, -100)
+BOWLS = ((1, 0, 1), (1, 1, 1), (5, 6, 2), (2, 1, 3), (GREAT, 1, GREAT))
+LEVEL = ((1, 1, -1), (-1, 2, 1), (2, 4, -3), (2, 2, -2))
+SADDLES = LEVEL + ((1, 0, -2), (6, 0, -9), (1, 0, -1000), (1, 2 * GREAT, GREAT * GREAT - 2))
 
 
 def asked_for_wholes():
@@ -46,6 +53,35 @@ def asked_for_tuples():
             yield 3, moved, (form, turn)
     for form in FORMS:
         yield 3, opposite, (form,)
+    for form in LEVEL:
+        yield 3, after, (form,)
+    for form in SADDLES:
+        yield 4, step_of, (form,)
+        yield 2, power_of, (form, SAME)
+        yield 2, power_of, (form, step_of(form))
+    for form in BOWLS + SADDLES:
+        yield 3, least_of, (form,)
+        yield 4, alike, (form, form)
+    for point in POINTS:
+        yield 2, joined, (((1, 0, 0, -1), (0, 1, 1, 0)), (GREAT, 3), point)
+
+
+def asked_for_pairs():
+    """Each tells the tuple (form, turn)."""
+    for form in BOWLS:
+        yield settled, (form,)
+    for form in SADDLES:
+        yield eased, (form,)
+    for form in BOWLS + SADDLES:
+        yield shape_of(form).least, ()
+
+
+def asked_for_lists():
+    """Each with how many whole numbers there are in each tuple of the list that is told."""
+    for form in BOWLS:
+        yield 4, own_turns, (form,)
+    for form in SADDLES:
+        yield 3, round_of, (form,)
 
 
 def asked_for_truths():
@@ -53,11 +89,21 @@ def asked_for_truths():
         yield is_square, (number,)
     for turn in TURNS + ((0, 0, 0, 0), (1, 1, 1, 1)):
         yield is_turn, (turn,)
+    for form in BOWLS:
+        yield is_least, (form,)
+    for form in SADDLES:
+        yield is_level, (form,)
+    for form in BOWLS + SADDLES:
+        for turn in TURNS:
+            yield shape_of(form).leaves, (turn,)
 
 
 def everything_told():
     told = [asked(*handed) for asked, handed in list(asked_for_wholes()) + list(asked_for_truths())]
     told += [asked(*handed) for length, asked, handed in asked_for_tuples()]
+    told += [asked(*handed) for asked, handed in asked_for_pairs()]
+    told += [asked(*handed) for length, asked, handed in asked_for_lists()]
+    told += [product(form, form) for form in BOWLS + SADDLES if content(form) == 1]
     return told + [shape(form) for form in FORMS] + [SAME]
 
 
@@ -72,6 +118,18 @@ def refused_calls():
         (NoTurn, times, (no_turn, 0)),
         (NoTurn, times, (no_turn, -3)),
         (NoTurn, moved, ((1, 1, 1), no_turn)),
+        (NoShape, settled, ((1, 0, -2),)),
+        (NoShape, own_turns, ((-1, 0, -1),)),
+        (NoShape, round_of, ((1, 0, 1),)),
+        (TooGreat, eased, ((1, 1, -1000),)),
+        (NotLevel, after, ((1, 0, -2),)),
+        (NoTurn, power_of, ((1, 0, -2), no_turn)),
+        (NotOwn, power_of, ((1, 0, -2), (1, 1, 0, 1))),
+        (NoShape, shape_of, ((1, 2, 1),)),
+        (TooGreat, alike, ((1, 1, -1000), (1, 2, 1))),
+        (NoTurn, shape_of((1, 0, 1)).leaves, (no_turn,)),
+        (Apart, product, ((1, 0, 1), (1, 0, 2))),
+        (NotPlain, product, ((2, 0, 2), (2, 0, 2))),
     ]
 
 
@@ -84,6 +142,18 @@ class Kinds(unittest.TestCase):
         for length, asked, handed in asked_for_tuples():
             self.assertTrue(is_tuple_of_wholes(asked(*handed), length), (asked, handed))
         self.assertTrue(is_tuple_of_wholes(SAME, 4))
+
+    def test_forms_with_turns(self):
+        for asked, handed in asked_for_pairs():
+            told = asked(*handed)
+            self.assertTrue(type(told) is tuple and len(told) == 2, (asked, handed))
+            self.assertTrue(is_tuple_of_wholes(told[0], 3) and is_tuple_of_wholes(told[1], 4), (asked, handed))
+
+    def test_lists(self):
+        for length, asked, handed in asked_for_lists():
+            told = asked(*handed)
+            self.assertIs(type(told), list, (asked, handed))
+            self.assertTrue(all(is_tuple_of_wholes(thing, length) for thing in told), (asked, handed))
 
     def test_truths(self):
         for asked, handed in asked_for_truths():
@@ -99,6 +169,23 @@ class AskedAgain(unittest.TestCase):
         told = [(asked, handed, asked(*handed)) for length, asked, handed in asked_for_tuples()]
         for asked, handed, before in reversed(told):
             self.assertEqual(asked(*handed), before, (asked, handed))
+
+
+class AskersOwn(unittest.TestCase):
+    def test_a_list_that_was_changed_is_told_anew_as_it_was(self):
+        for length, asked, handed in asked_for_lists():
+            told = asked(*handed)
+            kept = list(told)
+            told.reverse()
+            told.append(None)
+            self.assertEqual(asked(*handed), kept, (asked, handed))
+
+    def test_a_later_question_changes_no_list(self):
+        told = [asked(*handed) for length, asked, handed in asked_for_lists()]
+        kept = [list(one) for one in told]
+        for length, asked, handed in asked_for_lists():
+            asked(*handed).clear()
+        self.assertEqual(told, kept)
 
 
 class Refused(unittest.TestCase):

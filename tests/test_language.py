@@ -108,6 +108,22 @@ class Code(unittest.TestCase):
                 self.assertIn(word, OWN_NAMES, (name, node.lineno))
                 self.assertTrue(isinstance(node, ast.Name) and isinstance(node.ctx, ast.Load), (name, node.lineno))
 
+    def test_no_local_is_called_like_a_class_or_an_import_of_its_file(self):
+        for name, tree in trees():
+            taken = [alias.name for part in tree.body if isinstance(part, ast.ImportFrom) for alias in part.names]
+            taken += [part.name for part in tree.body if isinstance(part, ast.ClassDef)]
+            for node in ast.walk(tree):
+                if isinstance(node, ast.arg):
+                    self.assertNotIn(node.arg, taken, (name, node.lineno))
+                if isinstance(node, ast.Name) and isinstance(node.ctx, ast.Store):
+                    self.assertNotIn(node.id, taken, (name, node.lineno))
+
+    def test_no_name_is_a_method_and_a_value(self):
+        methods = [part.name for name, node in nodes(ast.ClassDef) for part in node.body if hasattr(part, "name")]
+        for name, node in nodes(ast.Attribute):
+            if isinstance(node.ctx, ast.Store):
+                self.assertNotIn(node.attr, methods, (name, node.lineno))
+
     def test_methods(self):
         own = [node.name for name, node in nodes(ast.FunctionDef)]
         for name, node in nodes(ast.Call):

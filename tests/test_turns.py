@@ -2,16 +2,10 @@ import unittest
 
 from formcycle.errors import NoTurn
 from formcycle.turns import SAME, back, is_turn, led, then, times
-from tests.samples import GREAT, NO_TURNS, great_turns, is_tuple_of_wholes, points, small_turns
+from tests.samples import GREAT, NO_TURNS, behind, great_turns, is_tuple_of_wholes, points, small_turns
 
 TURNS = small_turns(2) + great_turns()
 SOME_TURNS = small_turns(1) + great_turns() + [(2, 1, 1, 1), (0, -1, 1, 5), (3, 5, 4, 7)]
-
-
-def behind(one, other):
-    p, q, r, s = one
-    t, u, v, w = other
-    return (p * t + q * v, p * u + q * w, r * t + s * v, r * u + s * w)
 
 
 class Turns(unittest.TestCase):
