@@ -1,9 +1,9 @@
 """Saddles: level forms and their rounds, the step, and own turns told by sign and count (points 13 to 17)."""
 
-from formcycle.errors import NoShape, NotLevel, NotOwn, TooGreat
+from formcycle.errors import NoShape, NotLevel, NotOwn
 from formcycle.forms import content, measure, moved, shape
 from formcycle.turns import SAME, back, check_turn, put_behind
-from formcycle.wholes import root
+from formcycle.wholes import check_at_most, root
 
 MOST_MEASURE = 4000
 
@@ -11,9 +11,7 @@ MOST_MEASURE = 4000
 def check_saddle(form):
     if shape(form) != "saddle":
         raise NoShape(form)
-    number = measure(form)
-    if number > MOST_MEASURE:
-        raise TooGreat(number, MOST_MEASURE)
+    check_at_most(measure(form), MOST_MEASURE)
 
 
 def is_level(form):

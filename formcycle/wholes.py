@@ -1,6 +1,6 @@
-"""Whole numbers: divisor, shares, root, squares, and a thing powered (points 4 to 6)."""
+"""Whole numbers: divisor, shares, root, squares, a thing powered (points 4 to 6), and the bounds of what is asked."""
 
-from formcycle.errors import NoRoot
+from formcycle.errors import NoRoot, TooGreat
 
 
 def divisor(one, other):
@@ -59,3 +59,13 @@ def powered(thing, count, put, first):
         if (count >> place) % 2 == 1:
             came = put(came, thing)
     return came
+
+
+def check_at_most(number, most):
+    if number > most:
+        raise TooGreat(number, most)
+
+
+def check_within(number, most):
+    if abs(number) > most:
+        raise TooGreat(number, most)

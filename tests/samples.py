@@ -1,7 +1,7 @@
 """What several tests ask about: turns, forms and points, small and great, and the kinds of what is told."""
 
 from itertools import product
-from math import isqrt
+from math import gcd, isqrt
 
 GREAT = 7 ** 236 + 12345
 
@@ -77,6 +77,10 @@ def move(form, turn):
     )
 
 
+def taken(form, point):
+    return form[0] * point[0] ** 2 + form[1] * point[0] * point[1] + form[2] * point[1] ** 2
+
+
 def measure_of(form):
     return form[1] * form[1] - 4 * form[0] * form[2]
 
@@ -109,6 +113,49 @@ def level_forms(number):
         for a in range(-far, far + 1):
             if a != 0 and (b * b - number) % (4 * a) == 0 and far - b < 2 * abs(a) <= far + b:
                 found.append((a, b, (b * b - number) // (4 * a)))
+    return found
+
+
+def behind_by_the_words(form):
+    a, b, c = form
+    number = measure_of(form)
+    d = isqrt(number)
+    while (b + d) % (2 * c) != 0:
+        d -= 1
+    return (c, d, (d * d - number) // (4 * c))
+
+
+def rings(number):
+    """The rings of a measure by the words of the document, each from its least form on."""
+    left = sorted(level_forms(number))
+    found = []
+    while left:
+        ring = [left[0]]
+        while behind_by_the_words(ring[-1]) != ring[0]:
+            ring.append(behind_by_the_words(ring[-1]))
+        left = [form for form in left if form not in ring]
+        found.append(ring)
+    return found
+
+
+def least_by_the_words(form):
+    a, b, c = form
+    if not (-a <= b and b <= a and a <= c):
+        return False
+    if b == -a or a == c:
+        return b >= 0
+    return True
+
+
+def plain_forms(number, most):
+    """The plain bowls or saddles of a measure whose first and middle number lie within a bound."""
+    found = []
+    for a in range(-most if number > 0 else 1, most + 1):
+        for b in range(-most, most + 1):
+            if a != 0 and (b * b - number) % (4 * a) == 0:
+                form = (a, b, (b * b - number) // (4 * a))
+                if gcd(*form) == 1:
+                    found.append(form)
     return found
 
 

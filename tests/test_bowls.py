@@ -12,6 +12,7 @@ from tests.samples import (
     behind,
     bowls,
     is_tuple_of_wholes,
+    least_by_the_words,
     measure_of,
     move,
     row_of_turns,
@@ -62,15 +63,6 @@ NOT_LEAST = (
     (GREAT, -GREAT - 1, GREAT + 1),
     (GREAT + 1, 0, GREAT),
 )
-
-
-def least_by_the_words(form):
-    a, b, c = form
-    if not (-a <= b and b <= a and a <= c):
-        return False
-    if b == -a or a == c:
-        return b >= 0
-    return True
 
 
 def long_turns():

@@ -60,6 +60,28 @@ ARGUMENTS = {
         "product": ["one", "other"],
         "joined": ["rows", "one", "other"],
     },
+    "formcycle.classes": {
+        "unit": ["number"],
+        "classes": ["number"],
+        "table": ["number"],
+        "power": ["form", "count"],
+        "order_of": ["form"],
+    },
+    "formcycle.answers": {
+        "heads": ["form", "number"],
+        "whence": ["form", "number", "point"],
+        "all_answers": ["form", "number"],
+    },
+    "formcycle.chains": {
+        "chain": ["number"],
+        "part": ["number", "k"],
+        "fraction": ["number", "k"],
+        "plus_one": ["number"],
+        "minus_one": ["number"],
+    },
+    "formcycle.near": {
+        "nearest": ["number", "most"],
+    },
 }
 
 METHODS = {"least": ["self"], "leaves": ["self", "turn"], "way_to": ["self", "other"]}

@@ -2,9 +2,26 @@
 
 import unittest
 
+from formcycle.answers import all_answers, heads, whence
 from formcycle.bowls import is_least, own_turns, settled
-from formcycle.errors import Apart, FormError, NoRoot, NoShape, NotLevel, NotOwn, NotPlain, NoTurn, TooGreat
+from formcycle.chains import chain, fraction, minus_one, part, plus_one
+from formcycle.classes import classes, order_of, power, table, unit
+from formcycle.errors import (
+    Apart,
+    FormError,
+    NoAnswer,
+    NoMeasure,
+    NoRoot,
+    NoShape,
+    NotLevel,
+    NotOwn,
+    NotPlain,
+    NoTurn,
+    Nought,
+    TooGreat,
+)
 from formcycle.forms import content, measure, moved, opposite, shape, value
+from formcycle.near import nearest
 from formcycle.products import joined, product
 from formcycle.saddles import after, eased, is_level, power_of, round_of, step_of
 from formcycle.shapes import alike, least_of, shape_of
@@ -20,6 +37,9 @@ COUNTS = (0, 1, -1, 2, 7, 100, -100)
 BOWLS = ((1, 0, 1), (1, 1, 1), (5, 6, 2), (2, 1, 3), (GREAT, 1, GREAT))
 LEVEL = ((1, 1, -1), (-1, 2, 1), (2, 4, -3), (2, 2, -2))
 SADDLES = LEVEL + ((1, 0, -2), (6, 0, -9), (1, 0, -1000), (1, 2 * GREAT, GREAT * GREAT - 2))
+PLAIN = tuple(form for form in BOWLS + SADDLES if content(form) == 1)
+MEASURES = (-3, -4, -23, -84, -400, 5, 12, 40, 396)
+ROOTS = (2, 3, 7, 61, 1000)
 
 
 def asked_for_wholes():
@@ -34,6 +54,12 @@ def asked_for_wholes():
             yield value, (form, point)
     for count in (0, 1, 2, 9):
         yield powered, (3, count, divisor, 0)
+    for form in PLAIN:
+        if measure(form) >= -4000:
+            yield order_of, (form,)
+    for number in ROOTS:
+        for k in (0, 1, 2, 5, 300, 10 ** 1999):
+            yield part, (number, k)
 
 
 def asked_for_tuples():
@@ -64,6 +90,19 @@ def asked_for_tuples():
         yield 4, alike, (form, form)
     for point in POINTS:
         yield 2, joined, (((1, 0, 0, -1), (0, 1, 1, 0)), (GREAT, 3), point)
+    for number in MEASURES + (4000, -4000, -4 * GREAT):
+        yield 3, unit, (number,)
+    for form in PLAIN:
+        for count in (0, 1, -1, 2, -7, 10 ** 6, -10 ** 6):
+            yield 3, power, (form, count)
+    for number in ROOTS:
+        yield 2, plus_one, (number,)
+        for k in (0, 1, 2, 300):
+            yield 2, fraction, (number, k)
+        for most in (1, 2, 100, 10 ** 60):
+            yield 2, nearest, (number, most)
+    for number in (2, 61):
+        yield 2, minus_one, (number,)
 
 
 def asked_for_pairs():
@@ -80,8 +119,25 @@ def asked_for_lists():
     """Each with how many whole numbers there are in each tuple of the list that is told."""
     for form in BOWLS:
         yield 4, own_turns, (form,)
+        for number in (-1, 0, 1, 5, 36, 400):
+            yield 2, all_answers, (form, number)
     for form in SADDLES:
         yield 3, round_of, (form,)
+    for form in BOWLS + SADDLES:
+        for number in (-7, -1, 1, 5, 36, 400):
+            yield 2, heads, (form, number)
+    for number in MEASURES + (4000, -4000):
+        yield 3, classes, (number,)
+    for number in ROOTS:
+        yield 3, chain, (number,)
+
+
+def asked_for_places():
+    """Each tells the tuple (place, turn)."""
+    for form in BOWLS + SADDLES:
+        for number in (-7, -1, 1, 5, 36, 400):
+            for point in heads(form, number):
+                yield whence, (form, number, point)
 
 
 def asked_for_truths():
@@ -103,7 +159,9 @@ def everything_told():
     told += [asked(*handed) for length, asked, handed in asked_for_tuples()]
     told += [asked(*handed) for asked, handed in asked_for_pairs()]
     told += [asked(*handed) for length, asked, handed in asked_for_lists()]
-    told += [product(form, form) for form in BOWLS + SADDLES if content(form) == 1]
+    told += [asked(*handed) for asked, handed in asked_for_places()]
+    told += [product(form, form) for form in PLAIN]
+    told += [table(number) for number in MEASURES] + [minus_one(3)]
     return told + [shape(form) for form in FORMS] + [SAME]
 
 
@@ -130,6 +188,21 @@ def refused_calls():
         (NoTurn, shape_of((1, 0, 1)).leaves, (no_turn,)),
         (Apart, product, ((1, 0, 1), (1, 0, 2))),
         (NotPlain, product, ((2, 0, 2), (2, 0, 2))),
+        (NoMeasure, unit, (2,)),
+        (NoMeasure, table, (400,)),
+        (TooGreat, classes, (-4003,)),
+        (TooGreat, table, (401,)),
+        (NotPlain, power, ((2, 0, 2), 0)),
+        (TooGreat, order_of, ((2, 0, 502),)),
+        (Nought, heads, ((1, 0, 1), 0)),
+        (TooGreat, heads, ((1, 0, 1), -401)),
+        (NoAnswer, whence, ((1, 0, 1), 5, (1, 1))),
+        (NoShape, all_answers, ((1, 0, -2), 401)),
+        (NoRoot, chain, (4,)),
+        (TooGreat, part, (1001, 5)),
+        (TooGreat, fraction, (2, 301)),
+        (NoRoot, minus_one, (1,)),
+        (NoRoot, nearest, (-2, 5)),
     ]
 
 
@@ -154,6 +227,24 @@ class Kinds(unittest.TestCase):
             told = asked(*handed)
             self.assertIs(type(told), list, (asked, handed))
             self.assertTrue(all(is_tuple_of_wholes(thing, length) for thing in told), (asked, handed))
+
+    def test_places_with_turns(self):
+        for asked, handed in asked_for_places():
+            told = asked(*handed)
+            self.assertTrue(type(told) is tuple and len(told) == 2, (asked, handed))
+            self.assertTrue(is_whole(told[0]) and is_tuple_of_wholes(told[1], 4), (asked, handed))
+
+    def test_lists_of_lists(self):
+        for number in MEASURES:
+            told = table(number)
+            self.assertIs(type(told), list)
+            for row in told:
+                self.assertIs(type(row), list)
+                self.assertTrue(all(is_whole(place) for place in row), number)
+
+    def test_none(self):
+        self.assertIsNone(minus_one(3))
+        self.assertIsNone(alike((1, 0, 1), (1, 0, 2)))
 
     def test_truths(self):
         for asked, handed in asked_for_truths():
@@ -186,6 +277,17 @@ class AskersOwn(unittest.TestCase):
         for length, asked, handed in asked_for_lists():
             asked(*handed).clear()
         self.assertEqual(told, kept)
+
+
+    def test_a_changed_table_is_told_anew_as_it_was(self):
+        for number in MEASURES:
+            told = table(number)
+            kept = [list(row) for row in told]
+            for row in table(number):
+                row.append(None)
+                row.reverse()
+            self.assertEqual(told, kept)
+            self.assertEqual(table(number), kept)
 
 
 class Refused(unittest.TestCase):

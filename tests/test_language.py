@@ -88,6 +88,22 @@ class Code(unittest.TestCase):
     def test_one_target_in_an_assignment(self):
         for name, node in nodes(ast.Assign):
             self.assertEqual(len(node.targets), 1, (name, node.lineno))
+            self.assertNotIsInstance(node.targets[0], (ast.Tuple, ast.List), (name, node.lineno))
+
+    def test_comprehensions(self):
+        for name, node in nodes(ast.ListComp):
+            self.assertEqual(len(node.generators), 1, (name, node.lineno))
+            self.assertLessEqual(len(node.generators[0].ifs), 1, (name, node.lineno))
+
+    def test_no_two_files_draw_from_one_another(self):
+        drawn = {"formcycle/" + name: set() for name, tree in trees()}
+        for name, node in nodes(ast.ImportFrom):
+            drawn["formcycle/" + name].add(node.module.replace(".", "/") + ".py")
+        while drawn:
+            free = [name for name in drawn if not drawn[name] & set(drawn)]
+            self.assertNotEqual(free, [], drawn)
+            for name in free:
+                del drawn[name]
 
     def test_texts_and_numbers(self):
         for name, node in nodes(ast.Constant):

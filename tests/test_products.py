@@ -14,32 +14,18 @@ from tests.samples import (
     is_tuple_of_wholes,
     measure_of,
     move,
+    plain_forms,
     points,
     row_of_turns,
     saddle_measures,
     small_forms,
+    taken,
     unit_form,
 )
 
 POINTS = [(1, 0), (0, 1), (1, 1), (0, 0), (2, -3), (-5, 7), (GREAT, -2), (12345, GREAT)]
 BOWL_MEASURES = (-3, -4, -7, -8, -15, -20, -23, -31, -39, -47, -56, -71, -84)
 SADDLE_MEASURES = (5, 8, 12, 21, 40, 60, 65, 82 * 4, 85, 136, 145, 229, 257)
-
-
-def taken(form, point):
-    return form[0] * point[0] ** 2 + form[1] * point[0] * point[1] + form[2] * point[1] ** 2
-
-
-def plain_forms(number, most):
-    """The plain bowls or saddles of a measure whose first and middle number lie within a bound."""
-    found = []
-    for a in range(-most if number > 0 else 1, most + 1):
-        for b in range(-most, most + 1):
-            if a != 0 and (b * b - number) % (4 * a) == 0:
-                form = (a, b, (b * b - number) // (4 * a))
-                if gcd(*form) == 1:
-                    found.append(form)
-    return found
 
 
 def joined_by_the_words(rows, one, other):

@@ -12,12 +12,14 @@ from tests.samples import (
     GREAT_SADDLES,
     NO_TURNS,
     behind,
+    behind_by_the_words,
     bowls,
     is_tuple_of_wholes,
     is_whole,
     level_forms,
     measure_of,
     move,
+    rings,
     row_of_turns,
     saddle_measures,
     saddles,
@@ -36,28 +38,6 @@ NO_SADDLES = DOMES + FLATS + GREAT_FLATS + tuple(bowls(2)) + ((GREAT, 1, GREAT),
 
 def long_turns():
     return [row_of_turns(seed, figures) for seed, figures in ((11, 5), (12, 30), (13, 96), (14, 96))]
-
-
-def behind_by_the_words(form):
-    a, b, c = form
-    number = measure_of(form)
-    d = isqrt(number)
-    while (b + d) % (2 * c) != 0:
-        d -= 1
-    return (c, d, (d * d - number) // (4 * c))
-
-
-def rings(number):
-    """The rings of a measure by the words of the document, each from its least form on."""
-    left = sorted(level_forms(number))
-    found = []
-    while left:
-        ring = [left[0]]
-        while behind_by_the_words(ring[-1]) != ring[0]:
-            ring.append(behind_by_the_words(ring[-1]))
-        left = [form for form in left if form not in ring]
-        found.append(ring)
-    return found
 
 
 def least_pair(number):
